@@ -4,6 +4,7 @@ import (
 	"slices"
 
 	"gazetteer/api"
+	"gazetteer/clone"
 	"gazetteer/name"
 	"gazetteer/rdata"
 )
@@ -26,7 +27,7 @@ func Set(list []api.RR, n []string, kind int) (set []api.Data, ttl int) {
 			ttl = r.TTL
 		}
 		if !has(set, r.Data, rdata.Same) {
-			set = append(set, copyOf(r.Data))
+			set = append(set, clone.Data(r.Data))
 		}
 	}
 	return set, ttl
@@ -38,7 +39,7 @@ func Names(list []api.RR) []api.Question {
 	for _, r := range list {
 		q := api.Question{Name: r.Name, Type: r.Type, Class: r.Class}
 		if r.Class == api.IN && !has(out, q, asked) {
-			q.Name = fresh(r.Name)
+			q.Name = clone.List(r.Name)
 			out = append(out, q)
 		}
 	}
@@ -58,19 +59,4 @@ func within[T any](a, b []T, alike func(x, y T) bool) bool {
 // has tells whether one of list is alike x.
 func has[T any](list []T, x T, alike func(x, y T) bool) bool {
 	return slices.ContainsFunc(list, func(y T) bool { return alike(x, y) })
-}
-
-// copyOf answers d in memory of its own.
-func copyOf(d api.Data) api.Data {
-	return api.Data{
-		Bytes: fresh(d.Bytes),
-		Host:  fresh(d.Host),
-		Mail:  fresh(d.Mail),
-		Nums:  fresh(d.Nums),
-		Texts: fresh(d.Texts),
-	}
-}
-
-func fresh[T any](list []T) []T {
-	return append([]T(nil), list...)
 }
